@@ -1,0 +1,1 @@
+"""Reedtapes: tapes of notes written in the fewest bytes."""

@@ -1,0 +1,97 @@
+"""The package keeps to the plain parts of the language rules: files, sizes, signs, imports and names."""
+
+import ast
+import pathlib
+import re
+import unittest
+
+PACKAGE = pathlib.Path(__file__).resolve().parent.parent / "reedtapes"
+LIBRARY = {"heapq", "math", "itertools", "collections"}
+BUILTINS = set("""len range enumerate zip min max sum abs sorted reversed int str bool list tuple dict set isinstance ord
+    repr any all divmod pow iter next map super""".split())
+
+
+def files():
+    return sorted(PACKAGE.rglob("*.py"))
+
+
+def trees():
+    return [(path.name, ast.parse(path.read_text(encoding="ascii"))) for path in files()]
+
+
+class Files(unittest.TestCase):
+    def test_the_folder_holds_plain_files_alone(self):
+        found = [path for path in PACKAGE.iterdir() if path.name != "__pycache__"]
+        self.assertEqual(sorted(found), files())
+        self.assertTrue((PACKAGE / "__init__.py").exists())
+        for path in found:
+            self.assertRegex(path.name, r"^[a-z0-9_]+\.py$")
+
+    def test_signs_and_lengths(self):
+        for path in files():
+            text = path.read_text(encoding="ascii")
+            lines = text.split("\n")
+            self.assertLess(len(lines), 400, path)
+            self.assertLessEqual(max(map(len, lines)), 120, path)
+            self.assertRegex(text, r"^[ -~\n]*$")
+
+    def test_functions_are_small(self):
+        for name, tree in trees():
+            for node in ast.walk(tree):
+                if isinstance(node, ast.FunctionDef):
+                    self.assertLessEqual(node.end_lineno - node.lineno + 1, 40, (name, node.name))
+
+
+class Words(unittest.TestCase):
+    def test_imports(self):
+        for name, tree in trees():
+            for node in ast.walk(tree):
+                self.assertNotIsInstance(node, ast.Import, name)
+                if isinstance(node, ast.ImportFrom):
+                    self.assertEqual(node.level, 0, name)
+                    self.assertTrue(node.module in LIBRARY or node.module.startswith("reedtapes."), name)
+                    self.assertTrue(all(alias.asname is None and alias.name != "*" for alias in node.names), name)
+
+    def test_only_the_builtins_that_are_let(self):
+        for name, tree in trees():
+            known = set(dir(__builtins__) if not isinstance(__builtins__, dict) else __builtins__)
+            for node in ast.walk(tree):
+                if isinstance(node, ast.Name) and node.id in known:
+                    self.assertTrue(node.id in BUILTINS or node.id.endswith("Error") or node.id == "NotImplemented",
+                                    (name, node.id))
+
+    def test_no_float_and_no_decorator_over_a_function(self):
+        for name, tree in trees():
+            for node in ast.walk(tree):
+                self.assertNotIsInstance(node, (ast.Div, ast.Global, ast.AsyncFunctionDef), name)
+                self.assertFalse(isinstance(node, ast.Constant) and isinstance(node.value, float), name)
+
+    def test_no_barred_words(self):
+        barred = re.compile(r"\b(type|typing|enum|namedtuple|dataclass|_wall|open|eval|exec)\b")
+        for path in files():
+            self.assertIsNone(barred.search(path.read_text(encoding="ascii")), path)
+
+    def test_no_per_cent_sign_in_a_text(self):
+        for name, tree in trees():
+            for node in ast.walk(tree):
+                if isinstance(node, ast.Constant) and isinstance(node.value, str):
+                    self.assertNotIn("%", node.value, name)
+
+
+class Interface(unittest.TestCase):
+    DEFINED = {
+        "gaps": ["gap_bytes", "gap_read"],
+        "events": ["is_event", "need_track", "later", "keyed", "put_in"],
+        "heads": ["written", "cost", "prices", "thrifty"],
+    }
+
+    def test_each_function_is_defined_in_its_file(self):
+        found = dict(trees())
+        for file, names in self.DEFINED.items():
+            defined = [node.name for node in found[file + ".py"].body if isinstance(node, ast.FunctionDef)]
+            for name in names:
+                self.assertIn(name, defined)
+
+
+if __name__ == "__main__":
+    unittest.main()
