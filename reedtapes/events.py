@@ -6,6 +6,8 @@ MOST_TICK = 999999
 MOST_KEY = 127
 MOST_EVENTS = 200
 MOST_SIGNS = 12
+# The force of an `off` that may be written as an `on`, and of each one that is put in.
+END_FORCE = 64
 SIGNS = "abcdefghijklmnopqrstuvwxyz0123456789 "
 # The least and the most of each number behind an event's word.
 BOUNDS = {
@@ -54,6 +56,12 @@ def need_track(track):
         ahead = event[0]
 
 
+def need_tick(tick):
+    """Refuse a number that is no tick."""
+    if not is_within(tick, 0, MOST_TICK):
+        raise BadTick(f"{tick} is no tick")
+
+
 def later(track, by):
     """The track with so many ticks added to each tick."""
     return [(moved_tick(event[0], by),) + event[1:] for event in track]
@@ -61,8 +69,7 @@ def later(track, by):
 
 def moved_tick(tick, by):
     """A tick and so many, where that is a tick."""
-    if not is_within(tick + by, 0, MOST_TICK):
-        raise BadTick(f"{tick + by} is no tick")
+    need_tick(tick + by)
     return tick + by
 
 

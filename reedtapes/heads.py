@@ -1,5 +1,6 @@
 """Tracks as bytes: which heads can be left out, and in which order the most of them."""
 
+from reedtapes.events import END_FORCE
 from reedtapes.gaps import gap_bytes
 
 # The head of each word; all but a mark's have the channel added.
@@ -16,7 +17,7 @@ def forms(event):
     if event[1] == "mark":
         return [(head, [len(event[2])] + [ord(sign) for sign in event[2]])]
     told = [(head + event[2], list(event[3:]))]
-    if event[1] == "off" and event[4] == 64:
+    if event[1] == "off" and event[4] == END_FORCE:
         told.append((HEADS["on"] + event[2], [event[3], 0]))
     return told
 

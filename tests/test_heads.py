@@ -4,35 +4,10 @@ import random
 import unittest
 from itertools import groupby, permutations, product
 
+from plain import chance_event, chance_track, plain_forms, ways
 from reedtapes.events import need_track
 from reedtapes.gaps import gap_bytes
 from reedtapes.heads import cost, prices, thrifty, written
-
-
-def plain_forms(event):
-    """Each head and data by which point [5] lets an event be written."""
-    word = event[1]
-    if word == "mark":
-        return [(240, [len(event[2])] + [ord(sign) for sign in event[2]])]
-    told = [({"off": 128, "on": 144, "knob": 160, "voice": 176}[word] + event[2], list(event[3:]))]
-    if word == "off" and event[4] == 64:
-        told.append((144 + event[2], [event[3], 0]))
-    return told
-
-
-def ways(track, place=0, ahead=0):
-    """All rows of bytes for the events from a place on, behind an event written with a head."""
-    if place == len(track):
-        return [[0, 255]]
-    gap = gap_bytes(track[place][0] - (track[place - 1][0] if place else 0))
-    told = []
-    for head, data in plain_forms(track[place]):
-        rest = ways(track, place + 1, head)
-        starts = [gap + [head] + data]
-        if head == ahead and head != 240:
-            starts.append(gap + data)
-        told.extend(start + row for start in starts for row in rest)
-    return told
 
 
 def plain_prices(track):
@@ -77,24 +52,6 @@ def fewest(track):
         orders = permutations(group) if len(group) <= 6 else [tuple(group)]
         choices.append({order for order in orders if kept(list(order), group)})
     return min(cost([event for order in orders for event in order]) for orders in product(*choices))
-
-
-def chance_event(chance, tick, channels=2):
-    word = chance.choice(["on", "off", "off", "off", "knob", "voice", "mark"])
-    if word == "mark":
-        return (tick, "mark", chance.choice(["", "a", "b c"]))
-    channel = chance.randrange(channels)
-    if word == "voice":
-        return (tick, word, channel, chance.randrange(3))
-    return (tick, word, channel, chance.randrange(3), chance.choice([1, 64, 64]))
-
-
-def chance_track(chance, many, channels=2, most_step=1):
-    tick, track = 0, []
-    for _ in range(many):
-        tick += chance.randint(0, most_step)
-        track.append(chance_event(chance, tick, channels))
-    return track
 
 
 class Written(unittest.TestCase):

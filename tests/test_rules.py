@@ -83,6 +83,16 @@ class Interface(unittest.TestCase):
         "gaps": ["gap_bytes", "gap_read"],
         "events": ["is_event", "need_track", "later", "keyed", "put_in"],
         "heads": ["written", "cost", "prices", "thrifty"],
+        "feeder": ["read_track"],
+        "maps": ["share"],
+        "notes": ["notes", "lone", "hung", "over", "cured"],
+        "stands": ["stand_at"],
+    }
+    CLASSES = {
+        ("feeder", "Feeder"): ["__init__", "feed", "events", "closed", "finish", "busy", "__len__"],
+        ("maps", "Map"): ["__init__", "put", "drop", "beat", "paces", "pace_at", "moment", "tick_of", "near", "twin",
+                          "__eq__", "__len__", "__repr__"],
+        ("stands", "Stand"): ["__init__", "after", "sounds", "knobs", "voices", "__eq__", "__len__"],
     }
 
     def test_each_function_is_defined_in_its_file(self):
@@ -91,6 +101,14 @@ class Interface(unittest.TestCase):
             defined = [node.name for node in found[file + ".py"].body if isinstance(node, ast.FunctionDef)]
             for name in names:
                 self.assertIn(name, defined)
+
+    def test_each_method_is_defined_in_its_class(self):
+        found = dict(trees())
+        for (file, name), methods in self.CLASSES.items():
+            classes = {node.name: node for node in found[file + ".py"].body if isinstance(node, ast.ClassDef)}
+            defined = [node.name for node in classes[name].body if isinstance(node, ast.FunctionDef)]
+            for method in methods:
+                self.assertIn(method, defined, name)
 
 
 if __name__ == "__main__":
