@@ -62,15 +62,48 @@ def need_tick(tick):
         raise BadTick(f"{tick} is no tick")
 
 
+def last_tick(track):
+    """The tick of a track's last event, 0 where it has none."""
+    return track[-1][0] if len(track) > 0 else 0
+
+
+def need_behind(track, tick):
+    """Refuse a number that is no tick, or one below the last tick of a track."""
+    if tick < last_tick(track) or tick > MOST_TICK:
+        raise BadTick(f"{tick} is no tick behind a whole track")
+
+
+def need_room(track):
+    """Refuse a list of more events than a track may have."""
+    if len(track) > MOST_EVENTS:
+        raise Full(f"a track has at most {MOST_EVENTS} events")
+
+
+def ticks_of(track):
+    """The ticks of a track's events."""
+    return [event[0] for event in track]
+
+
+def with_ticks(track, ticks):
+    """The events of a track with these numbers for their ticks."""
+    return [(tick,) + event[1:] for tick, event in zip(ticks, track)]
+
+
+def retimed(track, ticks):
+    """The track with these ticks instead of its own, each of which must be one."""
+    for tick in ticks:
+        need_tick(tick)
+    return with_ticks(track, ticks)
+
+
+def at_tick(tick, things):
+    """Events without their ticks as events at a tick."""
+    return [(tick,) + thing for thing in things]
+
+
 def later(track, by):
     """The track with so many ticks added to each tick."""
-    return [(moved_tick(event[0], by),) + event[1:] for event in track]
-
-
-def moved_tick(tick, by):
-    """A tick and so many, where that is a tick."""
-    need_tick(tick + by)
-    return tick + by
+    return retimed(track, [tick + by for tick in ticks_of(track)])
 
 
 def keyed(track, by):
@@ -92,9 +125,8 @@ def put_in(track, event):
     """The track with an event more, behind all those up to its tick."""
     if not is_event(event):
         raise BadEvent(f"{event} is no event")
-    if len(track) >= MOST_EVENTS:
-        raise Full(f"a track has at most {MOST_EVENTS} events")
-    place = len([other for other in track if other[0] <= event[0]])
+    place = len([tick for tick in ticks_of(track) if tick <= event[0]])
     told = list(track)
     told.insert(place, event)
+    need_room(told)
     return told

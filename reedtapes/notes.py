@@ -1,7 +1,6 @@
 """Notes of a track: their beginnings and ends, and tracks cured of those that lack one."""
 
-from reedtapes.errors import BadTick, Full
-from reedtapes.events import END_FORCE, MOST_EVENTS, MOST_TICK
+from reedtapes.events import END_FORCE, last_tick, need_behind, need_room
 
 
 def walked_through(track):
@@ -52,16 +51,13 @@ def over(track):
 
 def cured(track, *, until=None):
     """The track without its lone ends, and with an end for each hung note behind all."""
-    last = track[-1][0] if len(track) > 0 else 0
-    tick = last if until is None else until
-    if tick < last or tick > MOST_TICK:
-        raise BadTick(f"notes can't be ended at {tick}")
+    tick = last_tick(track) if until is None else until
+    need_behind(track, tick)
     away = lone(track)
     told = [event for place, event in enumerate(track) if place not in away]
     for place in hung(track):
         told.append(end_of(track[place], tick))
-    if len(told) > MOST_EVENTS:
-        raise Full(f"a track has at most {MOST_EVENTS} events")
+    need_room(told)
     return told
 
 

@@ -1,6 +1,6 @@
 """Stands: what sounds and what is set behind some events."""
 
-from reedtapes.events import need_tick
+from reedtapes.events import END_FORCE, need_tick
 
 
 def sounds_after(sounds, thing):
@@ -63,8 +63,21 @@ class Stand:
 def stand_at(track, tick):
     """The stand behind all events up to a tick."""
     need_tick(tick)
-    told = Stand()
-    for event in track:
-        if event[0] <= tick:
-            told = told.after(event[1:])
-    return told
+    return stand_behind(Stand(), [event for event in track if event[0] <= tick])
+
+
+def stand_behind(stand, events):
+    """The stand behind some events, from the one ahead of them."""
+    for event in events:
+        stand = stand.after(event[1:])
+    return stand
+
+
+def things(word, rows):
+    """The things of a word that lead to these rows of a stand, from one that has none of them."""
+    return [(word,) + row for row in rows]
+
+
+def ends(sounds):
+    """The things that end notes which sound."""
+    return [("off", channel, key, END_FORCE) for channel, key, _ in sounds]

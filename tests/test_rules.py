@@ -1,6 +1,7 @@
 """The package keeps to the plain parts of the language rules: files, sizes, signs, imports and names."""
 
 import ast
+import builtins
 import pathlib
 import re
 import unittest
@@ -17,6 +18,32 @@ def files():
 
 def trees():
     return [(path.name, ast.parse(path.read_text(encoding="ascii"))) for path in files()]
+
+
+def bound_by(node):
+    """The names that a statement at module level binds."""
+    if isinstance(node, ast.ImportFrom):
+        return [alias.name for alias in node.names]
+    if isinstance(node, ast.Assign):
+        return [target.id for target in node.targets]
+    return [node.name] if isinstance(node, (ast.FunctionDef, ast.ClassDef)) else []
+
+
+def local_names(tree):
+    """Every parameter and every name that is assigned within a function."""
+    told = set()
+    for node in ast.walk(tree):
+        if isinstance(node, (ast.FunctionDef, ast.Lambda)):
+            told |= {part.arg for part in ast.walk(node.args) if isinstance(part, ast.arg)}
+            told |= {part.id for part in ast.walk(node) if isinstance(part, ast.Name)
+                     and isinstance(part.ctx, ast.Store)}
+    return told
+
+
+def attributes_set_in(tree):
+    """The names of the attributes that are assigned in a class."""
+    return [node.attr for node in ast.walk(tree)
+            if isinstance(node, ast.Attribute) and isinstance(node.ctx, ast.Store)]
 
 
 class Files(unittest.TestCase):
@@ -78,6 +105,54 @@ class Words(unittest.TestCase):
                     self.assertNotIn("%", node.value, name)
 
 
+class Names(unittest.TestCase):
+    def test_each_module_holds_plain_statements(self):
+        plain = (ast.ImportFrom, ast.FunctionDef, ast.ClassDef, ast.Assign)
+        for name, tree in trees():
+            self.assertIsInstance(tree.body[0], ast.Expr, name)
+            for node in tree.body[1:]:
+                self.assertIsInstance(node, plain, name)
+            bound = [word for node in tree.body for word in bound_by(node)]
+            self.assertEqual(len(bound), len(set(bound)), name)
+
+    def test_no_name_stands_for_two_things(self):
+        for name, tree in trees():
+            outer = {word for node in tree.body for word in bound_by(node)
+                     if isinstance(node, (ast.ImportFrom, ast.ClassDef, ast.FunctionDef))}
+            for word in local_names(tree):
+                self.assertNotIn(word, outer, name)
+                self.assertNotIn(word, dir(builtins), name)
+
+    def test_each_import_is_used(self):
+        for name, tree in trees():
+            used = {node.id for node in ast.walk(tree) if isinstance(node, ast.Name)}
+            for node in tree.body:
+                if isinstance(node, ast.ImportFrom):
+                    for word in bound_by(node):
+                        self.assertIn(word, used, name)
+
+    def test_imports_name_the_file_that_defines_the_name(self):
+        found = dict(trees())
+        for name, tree in trees():
+            for node in tree.body:
+                if isinstance(node, ast.ImportFrom) and node.module.startswith("reedtapes."):
+                    home = found[node.module.split(".")[1] + ".py"]
+                    defined = [word for other in home.body if not isinstance(other, ast.ImportFrom)
+                               for word in bound_by(other)]
+                    for word in bound_by(node):
+                        self.assertIn(word, defined, name)
+
+    def test_methods_and_attributes_have_names_of_their_own(self):
+        barred = {word for kind in (str, int, list, dict, set, bytes, tuple) for word in dir(kind)}
+        for name, tree in trees():
+            for node in ast.walk(tree):
+                if isinstance(node, ast.ClassDef):
+                    methods = [part.name for part in node.body if isinstance(part, ast.FunctionDef)]
+                    plain = [word for word in methods if not word.startswith("__")]
+                    self.assertEqual(barred & set(plain), set(), name)
+                    self.assertEqual(set(attributes_set_in(node)) & (barred | set(methods)), set(), name)
+
+
 class Interface(unittest.TestCase):
     DEFINED = {
         "gaps": ["gap_bytes", "gap_read"],
@@ -87,12 +162,17 @@ class Interface(unittest.TestCase):
         "maps": ["share"],
         "notes": ["notes", "lone", "hung", "over", "cured"],
         "stands": ["stand_at"],
+        "sound": ["unlike"],
+        "tracks": ["merged", "parted", "apart", "cut", "glued", "at_beat", "least_beat"],
+        "grids": ["evened", "unevened", "mapped"],
     }
     CLASSES = {
         ("feeder", "Feeder"): ["__init__", "feed", "events", "closed", "finish", "busy", "__len__"],
         ("maps", "Map"): ["__init__", "put", "drop", "beat", "paces", "pace_at", "moment", "tick_of", "near", "twin",
                           "__eq__", "__len__", "__repr__"],
         ("stands", "Stand"): ["__init__", "after", "sounds", "knobs", "voices", "__eq__", "__len__"],
+        ("player", "Player"): ["__init__", "tick", "play", "leap", "stand", "heard", "walked", "twin"],
+        ("grids", "Grid"): ["__init__", "line", "moved", "__eq__"],
     }
 
     def test_each_function_is_defined_in_its_file(self):
