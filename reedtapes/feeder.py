@@ -2,7 +2,7 @@
 
 from reedtapes.errors import BadBytes
 from reedtapes.events import END_FORCE, MOST_EVENTS, MOST_SIGNS, MOST_TICK, SIGNS
-from reedtapes.gaps import BASE
+from reedtapes.gaps import BASE, gap_goes_on
 from reedtapes.heads import END, HEADS, NO_HEAD, left_by
 
 MOST_BYTE = 255
@@ -123,9 +123,7 @@ class Feeder:
     def _goes_on_in_gap(self, byte):
         gap = self._gap * BASE + byte % BASE
         is_last = byte < BASE
-        # A gap that goes on gets a figure more at least, and begins with no nought.
-        least = gap if is_last else gap * BASE
-        if least > self._most_gap() or (gap == 0 and not is_last):
+        if not gap_goes_on(gap, is_last, 0, self._most_gap()):
             return False
         self._gap = gap
         if is_last:

@@ -3,7 +3,6 @@
 from reedtapes.errors import BadBytes, BadNumber
 
 MOST_GAP = 268435455
-MOST_SIZE = 4
 BASE = 128
 
 
@@ -22,14 +21,25 @@ def gap_bytes(number):
 
 def gap_read(row, at=0):
     """The gap whose bytes begin at a place of a row, and the place behind them."""
+    return gap_within(row, at, 0, MOST_GAP)
+
+
+def gap_within(row, at, least, most):
+    """The gap at a place of a row, from a least one, 0 or 1, to a most one, and the place behind it."""
     number = 0
-    place = at
-    while place < len(row) and row[place] >= BASE:
-        # A leading nought is a byte too many, and the last byte that a gap may have ends it.
-        if (place == at and row[place] == BASE) or place == at + MOST_SIZE - 1:
+    for place in range(at, len(row)):
+        is_last = row[place] < BASE
+        number = number * BASE + row[place] % BASE
+        if not gap_goes_on(number, is_last, least, most):
             raise BadBytes(place)
-        number = number * BASE + row[place] - BASE
-        place += 1
-    if place >= len(row):
-        raise BadBytes(len(row))
-    return number * BASE + row[place], place + 1
+        if is_last:
+            return number, place + 1
+    raise BadBytes(len(row))
+
+
+def gap_goes_on(number, is_last, least, most):
+    """Whether the figures so far, all of them or not, lead to a gap from a least one, 0 or 1, to a most one."""
+    if is_last:
+        return least <= number <= most
+    # A gap that goes on gets a figure more at least, and begins with no nought.
+    return number > 0 and number * BASE <= most

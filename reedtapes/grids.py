@@ -21,9 +21,9 @@ class Grid:
     def line(self, tick):
         """The line that is nearest to a tick, of two the earlier."""
         at = tick // self._step
-        lines = [self._line_of(at - 1), self._line_of(at), self._line_of(at + 1)]
-        # The lines rise, and of several as near the first one is told.
-        return min(lines, key=lambda place: abs(place - tick))
+        # No line ahead of these two is nearer: where the swing puts the first one behind the tick, it is less than a
+        # step away, and those ahead of it are a step at least.
+        return min([self._line_of(at), self._line_of(at + 1)], key=lambda place: abs(place - tick))
 
     def moved(self, tick):
         """The tick as it is moved towards its line."""

@@ -165,6 +165,8 @@ class Interface(unittest.TestCase):
         "sound": ["unlike"],
         "tracks": ["merged", "parted", "apart", "cut", "glued", "at_beat", "least_beat"],
         "grids": ["evened", "unevened", "mapped"],
+        "tape": ["tape_bytes", "read_tape"],
+        "pages": ["deed_row", "read_deed", "page", "read_page"],
     }
     CLASSES = {
         ("feeder", "Feeder"): ["__init__", "feed", "events", "closed", "finish", "busy", "__len__"],
@@ -173,6 +175,10 @@ class Interface(unittest.TestCase):
         ("stands", "Stand"): ["__init__", "after", "sounds", "knobs", "voices", "__eq__", "__len__"],
         ("player", "Player"): ["__init__", "tick", "play", "leap", "stand", "heard", "walked", "twin"],
         ("grids", "Grid"): ["__init__", "line", "moved", "__eq__"],
+        ("tape", "Tape"): ["__init__", "beat", "tracks", "paces", "paced", "__eq__", "__len__", "__repr__"],
+        ("deck", "Deck"): ["__init__", "do", "do_all", "undo", "redo", "deeds", "names", "tape", "fresh", "busy", "twin",
+                           "__eq__", "__len__"],
+        ("desk", "Desk"): ["__init__", "deck", "say"],
     }
 
     def test_each_function_is_defined_in_its_file(self):
