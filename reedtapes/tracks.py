@@ -49,9 +49,10 @@ def cut(track, tick):
     stand = stand_behind(Stand(), ahead)
     first = ahead + at_tick(tick, ends(stand.sounds()))
     begun = things("voice", stand.voices()) + things("knob", stand.knobs()) + things("on", stand.sounds())
+    second = at_tick(0, begun) + later(track[len(ahead):], -tick)
     need_room(first)
-    # The second piece always has room: what is set or sounds at its beginning was an event ahead of the tick.
-    return first, at_tick(0, begun) + later(track[len(ahead):], -tick)
+    need_room(second)
+    return first, second
 
 
 def glued(track, other, tick):

@@ -171,6 +171,8 @@ class Cut(unittest.TestCase):
         self.assertEqual([len(piece) for piece in cut(set_twice + marks(195, 9), 9)], [6, 197])
         begun = [on(0, key) for key in range(60)] + [(0, "voice", channel, 1) for channel in range(3)]
         self.assertEqual([len(piece) for piece in cut(begun + marks(137, 9), 9)], [123, 200])
+        self.assertEqual(cut(marks(200, 9), 9), ([], marks(200, 0)))
+        self.assertRaises(Full, cut, marks(201, 9), 9)
 
     def test_a_second_piece_is_never_too_long(self):
         # Each thing at its beginning stands for an event ahead of the tick.
